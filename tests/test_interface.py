@@ -1,0 +1,23 @@
+import importlib
+import inspect
+import unittest
+
+FUNCTIONS = {
+    "fourtell.packs": {"most": ["size"], "counts": ["size", "cards"]},
+    "fourtell.orders": {"order_number": ["row"], "order_at": ["numbers", "number"]},
+}
+
+
+class InterfaceTest(unittest.TestCase):
+    def test_names_and_arguments_as_the_document_tells_them(self):
+        for file, functions in FUNCTIONS.items():
+            module = importlib.import_module(file)
+            for name, arguments in functions.items():
+                parameters = inspect.signature(getattr(module, name)).parameters
+                self.assertEqual(list(parameters), arguments, name)
+                for parameter in parameters.values():
+                    self.assertIs(parameter.default, inspect.Parameter.empty, name)
+
+
+if __name__ == "__main__":
+    unittest.main()
