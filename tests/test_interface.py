@@ -5,6 +5,10 @@ import unittest
 FUNCTIONS = {
     "fourtell.packs": {"most": ["size"], "counts": ["size", "cards"]},
     "fourtell.orders": {"order_number": ["row"], "order_at": ["numbers", "number"]},
+    "fourtell.deals": {"laid": ["size", "cards", "hand"], "told": ["size", "cards", "row"]},
+    "fourtell.hands": {"hand_at": ["size", "cards", "number"], "hand_number": ["size", "cards", "hand"]},
+    "fourtell.plans": {"plan": ["size", "cards", "begun"]},
+    "fourtell.notes": {"shown": ["numbers"], "read": ["text"]},
 }
 
 

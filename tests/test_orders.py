@@ -3,7 +3,7 @@ import math
 import unittest
 
 from fourtell.orders import order_at, order_number
-from tests.checks import GREATEST, LEAST, Checks
+from tests.checks import GREATEST, LEAST, Checks, put_in_a_row
 
 # Six unlike numbers each, none of them rising; the first 1 to 6 of each are used.
 SIXES = (
@@ -18,26 +18,14 @@ SIXES = (
 FAR = (10 ** 6, 10 ** 29, GREATEST)
 
 
-def goes_ahead(one, other):
-    for here, there in zip(one, other):
-        if here != there:
-            return here < there
-    return False
-
-
-def put_in_a_row(numbers):
-    """All orders; each is put behind just those that go ahead of it."""
-    orders = [list(order) for order in itertools.permutations(numbers)]
-    row = [None] * len(orders)
-    for order in orders:
-        row[sum(1 for other in orders if goes_ahead(other, order))] = order
-    return row
+def all_orders(numbers):
+    return [list(order) for order in itertools.permutations(numbers)]
 
 
 def some_orders(numbers):
     """Ways to hand the numbers in: all for a few of them, else some."""
     if len(numbers) < 5:
-        return [list(order) for order in itertools.permutations(numbers)]
+        return all_orders(numbers)
     turned = [numbers[k:] + numbers[:k] for k in range(len(numbers))]
     return turned + [sorted(numbers), sorted(numbers, reverse=True)]
 
@@ -46,7 +34,7 @@ class OrdersTest(Checks):
     def test_against_all_orders_put_in_a_row(self):
         for six in SIXES:
             for length in range(1, 7):
-                row = put_in_a_row(six[:length])
+                row = put_in_a_row(all_orders(six[:length]))
                 self.assertEqual(len(row), math.factorial(length))
                 for number, order in enumerate(row):
                     self.assertEqual(order_number(order), number, order)
@@ -55,7 +43,7 @@ class OrdersTest(Checks):
     def test_handed_in_in_any_order(self):
         for six in SIXES:
             for length in range(1, 7):
-                row = sorted(list(order) for order in itertools.permutations(six[:length]))
+                row = sorted(all_orders(six[:length]))
                 for handed in some_orders(six[:length]):
                     for number, order in enumerate(row):
                         self.assertEqual(order_at(handed, number), order, (handed, number))
@@ -63,8 +51,8 @@ class OrdersTest(Checks):
     def test_there_and_back(self):
         for six in SIXES:
             for length in range(1, 7):
-                for order in itertools.permutations(six[:length]):
-                    self.assertEqual(order_at(six[:length], order_number(list(order))), list(order))
+                for order in all_orders(six[:length]):
+                    self.assertEqual(order_at(six[:length], order_number(order)), order)
                 for number in range(math.factorial(length)):
                     self.assertEqual(order_number(order_at(six[:length], number)), number)
 

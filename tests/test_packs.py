@@ -3,10 +3,7 @@ import math
 import unittest
 
 from fourtell.packs import counts, most
-from tests.checks import GREATEST, LEAST, Checks
-
-MOST = {2: 3, 3: 8, 4: 27, 5: 124}
-NO_SIZES = (1, 0, -1, -2, -3, -4, -5, 6, 7, 27, 124, 500, 10 ** 29, GREATEST, -10 ** 29, LEAST)
+from tests.checks import GREATEST, LEAST, MOST, NO_SIZES, Checks
 
 
 def counted_one_by_one(size, cards):

@@ -81,6 +81,44 @@ class SourceTest(unittest.TestCase):
                     self.assertIn(node, tree.body, name)
                     self.assertNotIn("*", [alias.name for alias in node.names], name)
 
+    def test_names_are_drawn_from_the_file_that_defines_them(self):
+        defined = {}
+        for name, tree in trees():
+            own = [node for node in tree.body if not isinstance(node, ast.ImportFrom)]
+            defined["fourtell." + name[:-3]] = set().union(*(bound_names(node) for node in own))
+        for name, tree in trees():
+            for node in tree.body:
+                if isinstance(node, ast.ImportFrom):
+                    for alias in node.names:
+                        self.assertIn(alias.name, defined[node.module], name)
+
+    def test_no_two_files_draw_from_one_another(self):
+        left = {}
+        for name, tree in trees():
+            left["fourtell." + name[:-3]] = [node.module for node in tree.body if isinstance(node, ast.ImportFrom)]
+        while left:
+            free = [name for name in left if not set(left[name]) & set(left)]
+            self.assertNotEqual(free, [], sorted(left))
+            for name in free:
+                del left[name]
+
+    def test_no_text_has_a_percent_sign(self):
+        for name, tree in trees():
+            for node in ast.walk(tree):
+                if isinstance(node, ast.Constant) and isinstance(node.value, str):
+                    self.assertNotIn("%", node.value, (name, node.lineno))
+
+    def test_sets_stand_only_within_len_or_sorted(self):
+        for name, tree in trees():
+            within = []
+            for node in ast.walk(tree):
+                if isinstance(node, ast.Call) and isinstance(node.func, ast.Name) and node.func.id in ("len", "sorted"):
+                    within.extend(node.args)
+            for node in ast.walk(tree):
+                self.assertNotIsInstance(node, ast.Set, name)
+                if isinstance(node, ast.Call) and isinstance(node.func, ast.Name) and node.func.id == "set":
+                    self.assertIn(node, within, (name, node.lineno))
+
     def test_of_pythons_own_names_only_the_allowed_are_read_and_none_is_bound(self):
         for name, tree in trees():
             bound = bound_names(tree)
